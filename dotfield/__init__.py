@@ -1,0 +1,1 @@
+"""Dotfield encodes bytes as QR symbols and reads symbols."""
