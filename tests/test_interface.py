@@ -74,23 +74,20 @@ def definitions(module, kind):
 
 class Interface(unittest.TestCase):
 
-    def test_functions(self):
-        for module, signatures in FUNCTIONS.items():
-            defined = definitions(module, ast.FunctionDef)
+    def assert_defined(self, interface, kind):
+        for module, signatures in interface.items():
+            defined = definitions(module, kind)
             for name, signature in signatures.items():
                 with self.subTest(module, name=name):
                     self.assertIn(name, defined)
                     found = getattr(importlib.import_module(module), name)
                     self.assertEqual(str(inspect.signature(found)), signature)
 
+    def test_functions(self):
+        self.assert_defined(FUNCTIONS, ast.FunctionDef)
+
     def test_classes(self):
-        for module, signatures in CLASSES.items():
-            defined = definitions(module, ast.ClassDef)
-            for name, signature in signatures.items():
-                with self.subTest(module, name=name):
-                    self.assertIn(name, defined)
-                    found = getattr(importlib.import_module(module), name)
-                    self.assertEqual(str(inspect.signature(found)), signature)
+        self.assert_defined(CLASSES, ast.ClassDef)
 
     def test_methods_stand_in_the_class_itself(self):
         for (module, name), signatures in METHODS.items():
