@@ -20,6 +20,34 @@ FUNCTIONS = {
         "evaluate": "(polynomial, x)",
         "multiply_polynomials": "(first, second)",
     },
+    "dotfield.reed": {
+        "generator": "(count)",
+        "check_words": "(data, count)",
+        "is_codeword": "(words, count)",
+        "correct": "(words, count)",
+    },
+    "dotfield.words": {
+        "format_word": "(level, mask)",
+        "nearest_format": "(first, second)",
+        "version_word": "(version)",
+        "version_agrees": "(version, first, second)",
+        "distance": "(first, second)",
+    },
+    "dotfield.tables": {
+        "count_bits": "(mode, version)",
+        "check_count": "(version, level)",
+        "total_words": "(version)",
+        "block_sizes": "(version, level)",
+        "data_words": "(version, level)",
+        "alignment": "(version)",
+    },
+    "dotfield.segments": {
+        "fits": "(mode, content)",
+        "segment_bits": "(segment, version)",
+        "best_segments": "(text, version)",
+        "write_segments": "(writer, segments, version)",
+        "read_segments": "(bits, version, at=0)",
+    },
 }
 
 CLASSES = {
