@@ -59,3 +59,16 @@ def value_of(bits):
     for bit in bits:
         value = 2 * value + bit
     return value
+
+
+def bits_of_words(words):
+    """Return the bits of words of 8 bits, one word after the other."""
+    writer = BitWriter()
+    for word in words:
+        writer.write(8, word)
+    return writer.bit_list()
+
+
+def ones(number):
+    """Return how many bits of an integer from 0 are 1."""
+    return f"{number:b}".count("1")

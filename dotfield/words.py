@@ -1,5 +1,6 @@
 """Format words and version words."""
 
+from dotfield.bits import ones
 from dotfield.errors import InvalidFormat
 
 LEVEL_NUMBERS = {"L": 1, "M": 0, "Q": 3, "H": 2}
@@ -44,7 +45,7 @@ def version_agrees(version, first, second):
 
 def distance(first, second):
     """Return the number of bits in which two integers differ."""
-    return f"{first ^ second:b}".count("1")
+    return ones(first ^ second)
 
 
 def remainder(a, g):

@@ -48,6 +48,25 @@ FUNCTIONS = {
         "write_segments": "(writer, segments, version)",
         "read_segments": "(bits, version, at=0)",
     },
+    "dotfield.layout": {
+        "function_modules": "(version)",
+        "fixed_modules": "(version)",
+        "data_places": "(version)",
+        "format_places": "(version)",
+        "version_places": "(version)",
+    },
+    "dotfield.masks": {
+        "flips": "(mask, row, column)",
+        "apply_mask": "(grid, mask)",
+        "penalty": "(grid)",
+    },
+    "dotfield.symbol": {
+        "data_list": "(segments, version, level, header=None)",
+        "word_list": "(data, version, level)",
+        "draw": "(words, version, level, mask)",
+        "encode": "(text, *, level='M', least=1, most=40, mask=None, header=None)",
+        "encode_segments": "(segments, *, level='M', least=1, most=40, mask=None, header=None)",
+    },
 }
 
 CLASSES = {
@@ -69,6 +88,9 @@ CLASSES = {
         "BitWriter": "()",
         "BitReader": "(bits, at=0)",
     },
+    "dotfield.symbol": {
+        "Symbol": "(version, level, mask, header, segments, grid)",
+    },
 }
 
 METHODS = {
@@ -82,6 +104,9 @@ METHODS = {
         "read": "(self, width)",
         "left": "(self)",
         "at": "(self)",
+    },
+    ("dotfield.symbol", "Symbol"): {
+        "__eq__": "(self, other)",
     },
 }
 
