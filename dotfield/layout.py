@@ -32,7 +32,7 @@ def function_modules(version):
     """Return rows that tell for each module whether it belongs to a function pattern."""
     side = side_of(version)
     fixed = pattern_modules(version)
-    rows = [[(row, column) in fixed for column in range(side)] for row in range(side)]
+    rows = [[(i, j) in fixed for j in range(side)] for i in range(side)]
     for places in format_places(version) + version_places(version):
         for row, column in places:
             rows[row][column] = True
@@ -43,7 +43,7 @@ def fixed_modules(version):
     """Return the grid of all function patterns but the format and the version words."""
     side = side_of(version)
     fixed = pattern_modules(version)
-    return [[fixed.get((row, column), 0) for column in range(side)] for row in range(side)]
+    return [[fixed.get((i, j), 0) for j in range(side)] for i in range(side)]
 
 
 def pattern_modules(version):

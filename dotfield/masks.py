@@ -44,25 +44,25 @@ def flipped(grid, places, mask):
 
 def penalty(grid):
     """Return the penalty of a grid."""
-    columns = [list(column) for column in zip(*grid)]
-    return line_penalty(grid) + line_penalty(columns) + square_penalty(grid) + share_penalty(grid)
+    rows = [dark_and_light(line) for line in grid]
+    columns = [dark_and_light(line) for line in zip(*grid)]
+    in_lines = sum([line_penalty(dark, light) for dark, light in rows + columns])
+    return in_lines + square_penalty(rows) + share_penalty(grid)
 
 
-def line_penalty(lines):
-    """Return the penalty for the runs and for the patterns like finders in the lines."""
-    dark, light = dark_and_light(lines)
-    return run_penalty(dark) + run_penalty(light) + finder_penalty(dark, light)
+def dark_and_light(line):
+    """Return the dark and the light modules of a line as the bits of two integers.
 
-
-def dark_and_light(lines):
-    """Return the dark and the light modules of the lines as the bits of two integers.
-
-    So a few operations look at all places at once. Behind each line but the last stands a
-    bit that is 0 in both integers, as nothing goes on from one line to the next.
+    So a few operations look at all places of the line at once.
     """
-    dark = int("0".join(["".join(map(str, line)) for line in lines]), 2)
-    both = int("0".join(["1" * len(line) for line in lines]), 2)
-    return dark, both ^ dark
+    dark = int("".join(map(str, line)), 2)
+    every = (1 << len(line)) - 1
+    return dark, every ^ dark
+
+
+def line_penalty(dark, light):
+    """Return the penalty for the runs and for the patterns like finders in a line."""
+    return run_penalty(dark) + run_penalty(light) + finder_penalty(dark, light)
 
 
 def run_penalty(marked):
@@ -87,13 +87,12 @@ def finder_penalty(dark, light):
     return 40 * found
 
 
-def square_penalty(grid):
-    """Return the penalty for the squares of equal modules."""
+def square_penalty(rows):
+    """Return the penalty for the squares of equal modules; the rows are pairs of dark and light."""
     found = 0
-    one_row = len(grid) + 1
-    for marked in dark_and_light(grid):
-        pairs = marked & (marked >> 1)
-        found += ones(pairs & (pairs >> one_row))
+    for (dark, light), (dark_below, light_below) in zip(rows, rows[1:]):
+        for marked in (dark & dark_below, light & light_below):
+            found += ones(marked & (marked >> 1))
     return 3 * found
 
 

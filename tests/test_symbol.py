@@ -174,6 +174,15 @@ class Versions(Case):
                         self.assertEqual(
                             [found.version, found.segments], [version, best_by_trying(text, version)])
 
+    def test_a_choice_that_goes_on_behind_a_border(self):
+        # Below the border it pays to write the digits on their own, behind it no longer.
+        for version, part, many in ((10, b"ab123456cdef", 9), (27, b"ab12345678cdef", 43)):
+            text = list(part) * many
+            self.assertGreater(len(best_segments(text, version - 1)), 1)
+            for least in (1, version - 1, version):
+                found = encode(text, level="H", least=least, mask=0)
+                self.assertEqual([found.version, found.segments], [version, [("byte", text)]])
+
     def test_digits_at_the_borders(self):
         for version, level in ((9, "H"), (10, "H"), (26, "H"), (26, "Q"), (27, "H"), (27, "Q")):
             longest = max(n for n in range(1, 2048) if plain_cost("numeric", n, version) <= plain.room(version, level))
