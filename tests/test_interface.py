@@ -67,6 +67,30 @@ FUNCTIONS = {
         "encode": "(text, *, level='M', least=1, most=40, mask=None, header=None)",
         "encode_segments": "(segments, *, level='M', least=1, most=40, mask=None, header=None)",
     },
+    "dotfield.reading": {
+        "read_word": "(grid, places)",
+        "read_words": "(grid, version, mask)",
+        "distribute": "(words, version, level)",
+        "read": "(grid)",
+    },
+    "dotfield.turning": {
+        "turned": "(grid, quarters)",
+        "mirrored": "(grid)",
+        "turn_count": "(grid)",
+        "find_turn": "(grid)",
+        "read_turned": "(grid)",
+    },
+    "dotfield.pictures": {
+        "paint": "(grid, *, scale=4, quiet=4, dark=0, light=255)",
+        "scan": "(picture)",
+    },
+    "dotfield.sequence": {
+        "parity": "(text)",
+        "split": "(text, count)",
+        "join": "(pairs)",
+        "encode_message": "(text, count, *, level='M', least=1, most=40)",
+        "read_message": "(grids)",
+    },
 }
 
 CLASSES = {
@@ -91,6 +115,9 @@ CLASSES = {
     "dotfield.symbol": {
         "Symbol": "(version, level, mask, header, segments, grid)",
     },
+    "dotfield.reading": {
+        "Reading": "(version, level, mask, header, segments, text, changed)",
+    },
 }
 
 METHODS = {
@@ -106,6 +133,9 @@ METHODS = {
         "at": "(self)",
     },
     ("dotfield.symbol", "Symbol"): {
+        "__eq__": "(self, other)",
+    },
+    ("dotfield.reading", "Reading"): {
         "__eq__": "(self, other)",
     },
 }
