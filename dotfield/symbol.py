@@ -120,7 +120,8 @@ def encode(text, *, level="M", least=1, most=40, mask=None, header=None):
 def encode_segments(segments, *, level="M", least=1, most=40, mask=None, header=None):
     """Return the Symbol of the given segments."""
     copied = [(mode, list(content)) for mode, content in segments]
-    version = version_with_room(copied, list(range(least, most + 1)), level, header)
+    versions = [one for group in version_groups(least, most) for one in group]
+    version = version_with_room(copied, versions, level, header)
     if version is None:
         raise TooLong(0)
     return symbol_of(copied, version, level, mask, header)
